@@ -1,0 +1,1 @@
+"""Query plans that several workers run, and whether their answer is right."""

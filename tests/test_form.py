@@ -1,0 +1,190 @@
+"""The form of the package: the interface as it is written, and rules that a machine can see."""
+
+import ast
+import builtins
+import importlib
+import inspect
+import os
+import unittest
+
+import splitplans
+
+FOLDER = os.path.dirname(splitplans.__file__)
+
+INTERFACE = {
+    "errors": ["PlanError", "InputError", "RunError", "SizeError", "InvalidTerm(text)",
+               "InvalidTable(name, reason)", "InvalidWorld(reason)", "InvalidStep(reason)",
+               "InvalidPlan(number, reason)", "InvalidText(row, word)", "InvalidMenu(index, reason)",
+               "UnknownName(name)", "UnknownDeed(index)", "NoMove(exchange, receiver, sender)",
+               "NotEnded()", "NothingToUndo()", "TooMany(limit)"],
+    "terms": ["Term(kind, name, parts, marked=False)", "row_term(table, marked=False)",
+              "column_term(table, name, marked=False)", "place_term(table, marked=False)", "zero_term()",
+              "function_term(name, *parts)", "rule_term(name, *parts)"],
+    "equalities": ["Equalities(facts=(), keys=None)"],
+    "stepcheck": ["shows_same(facts, keys, steps, left, right)", "keeps(facts, keys, numbering)",
+                  "shows_apart(facts, keys, numbering, left, right)"],
+}
+
+METHODS = {
+    ("terms", "Term"): ["read(text)", "second(self)", "row_names(self)", "subterms(self)", "depth",
+                        "__eq__(self, other)", "__str__(self)"],
+    ("equalities", "Equalities"): [
+        "learn(self, left, right)", "follows(self, left, right)", "derive(self, left, right)",
+        "numbering(self, *terms)", "suppose(self, pairs, left, right)", "facts", "__len__(self)"],
+}
+
+LIBRARY = ("heapq", "math", "itertools", "collections", "__future__")
+
+BUILTINS = """len range enumerate zip min max sum abs sorted reversed int str bool bytes list tuple dict set
+frozenset isinstance ord repr any all divmod pow getattr hasattr setattr iter next map Exception ValueError
+TypeError KeyError IndexError LookupError ZeroDivisionError ArithmeticError OverflowError RuntimeError
+NotImplementedError AttributeError StopIteration NotImplemented super property classmethod
+staticmethod""".split()
+
+METHODS_OF_VALUES = """append clear copy count endswith extend find get index insert isalnum isalpha isdigit
+islower isspace isupper items join keys ljust lower lstrip partition pop remove replace reverse rfind rjust
+rpartition rsplit rstrip setdefault split splitlines startswith strip update upper values zfill bit_length
+title capitalize swapcase casefold center expandtabs removeprefix removesuffix rindex isascii isdecimal
+isnumeric istitle isidentifier isprintable translate maketrans encode decode hex from_bytes sort add discard
+format""".split()
+
+# Words that are no name of anything, and those that stand nowhere in the code.
+BARRED_NAMES = "register mro elements open input law version_info with_traceback add_note".split()
+BARRED_WORDS = """type typing typing_extensions enum Enum IntEnum StrEnum Flag IntFlag Generic Protocol ABC ABCMeta
+namedtuple NamedTuple TypedDict TYPE_CHECKING abstractmethod""".split()
+
+STATEMENTS = (ast.Global, ast.AsyncFunctionDef, ast.AsyncFor, ast.AsyncWith, ast.Await, ast.Import, ast.Div)
+
+
+def files():
+    return sorted(name for name in os.listdir(FOLDER) if name != "__pycache__")
+
+
+def source(name):
+    with open(os.path.join(FOLDER, name), encoding="ascii") as file:
+        return file.read()
+
+
+def trees():
+    return [(name, ast.parse(source(name))) for name in files()]
+
+
+def defined_in(tree):
+    """The names that a file binds by itself at module level."""
+    found = [node.name for node in tree.body if isinstance(node, (ast.FunctionDef, ast.ClassDef))]
+    return found + [node.targets[0].id for node in tree.body if isinstance(node, ast.Assign)]
+
+
+class Interface(unittest.TestCase):
+    def test_names_and_parameters(self):
+        for module, wanted in INTERFACE.items():
+            found = importlib.import_module(f"splitplans.{module}")
+            for each in wanted:
+                name, bracket, _ = each.partition("(")
+                thing = getattr(found, name)
+                self.assertEqual(thing.__module__, f"splitplans.{module}")
+                if bracket:
+                    self.assertEqual(name + str(inspect.signature(thing)), each)
+
+    def test_methods_stand_in_their_class(self):
+        for (module, name), wanted in METHODS.items():
+            owner = getattr(importlib.import_module(f"splitplans.{module}"), name)
+            for each in wanted:
+                method = vars(owner)[each.partition("(")[0]]
+                if isinstance(method, property):
+                    self.assertNotIn("(", each)
+                elif isinstance(method, classmethod):
+                    self.assertEqual("read" + str(inspect.signature(owner.read)), each)
+                else:
+                    self.assertEqual(method.__name__ + str(inspect.signature(method)), each)
+
+
+class Form(unittest.TestCase):
+    def test_files(self):
+        self.assertIn("__init__.py", files())
+        for name in files():
+            self.assertRegex(name, r"^[a-z0-9_]+\.py$")
+            rows = source(name).split("\n")
+            self.assertLess(len(rows), 400, name)
+            for row in rows:
+                self.assertLessEqual(len(row), 120, name)
+                self.assertRegex(row, r"^[ -~]*$", name)
+
+    def test_functions_are_small(self):
+        for name, tree in trees():
+            for node in ast.walk(tree):
+                if isinstance(node, ast.FunctionDef):
+                    self.assertLessEqual(node.end_lineno - node.lineno + 1, 40, (name, node.name))
+
+    def test_imports(self):
+        all_trees = dict(trees())
+        below = {}
+        for name, tree in all_trees.items():
+            below[name] = []
+            for node in ast.walk(tree):
+                if isinstance(node, ast.ImportFrom):
+                    self.assertIn(node, tree.body, name)
+                    if node.module in LIBRARY:
+                        continue
+                    package, _, module = node.module.partition(".")
+                    self.assertEqual((package, node.level), ("splitplans", 0), name)
+                    below[name].append(f"{module}.py")
+                    for alias in node.names:
+                        self.assertIn(alias.name, defined_in(all_trees[f"{module}.py"]), name)
+        # No circles: again and again, leave out the files that import only what is left out.
+        while below:
+            free = [name for name in below if not any(other in below for other in below[name])]
+            self.assertTrue(free, below)
+            below = {name: below[name] for name in below if name not in free}
+
+    def test_the_looker_does_not_import_the_maker(self):
+        for word in ("equalities", "closure", "derivations"):
+            self.assertNotIn(f"splitplans.{word}", source("stepcheck.py"))
+
+    def test_statements(self):
+        for name, tree in trees():
+            for node in ast.walk(tree):
+                self.assertNotIsInstance(node, STATEMENTS, name)
+                if isinstance(node, ast.FunctionDef):
+                    for decorator in node.decorator_list:
+                        self.assertRegex(ast.unparse(decorator),
+                                         r"^(property|classmethod|staticmethod|[a-z_]+\.setter)$", name)
+                if isinstance(node, ast.Constant) and isinstance(node.value, str):
+                    self.assertNotIn("%", node.value, name)
+
+    def test_names(self):
+        for name, tree in trees():
+            bound = set(defined_in(tree)) | set(BUILTINS)
+            bound |= {alias.name for node in tree.body if isinstance(node, ast.ImportFrom) for alias in node.names}
+            inside = {node.id for node in ast.walk(tree)
+                      if isinstance(node, ast.Name) and isinstance(node.ctx, ast.Store)}
+            inside |= {node.arg for node in ast.walk(tree) if isinstance(node, ast.arg)}
+            self.assertEqual((inside | set(defined_in(tree))) & set(dir(builtins)), set(), name)
+            for node in ast.walk(tree):
+                if isinstance(node, ast.Name) and isinstance(node.ctx, ast.Load):
+                    self.assertIn(node.id, bound | inside, name)
+
+    def test_called_methods(self):
+        own = {node.name for _, tree in trees() for node in ast.walk(tree) if isinstance(node, ast.FunctionDef)}
+        for name, tree in trees():
+            for node in ast.walk(tree):
+                if isinstance(node, ast.Call) and isinstance(node.func, ast.Attribute):
+                    called = node.func.attr
+                    self.assertTrue(called in METHODS_OF_VALUES or called in own or called == "__init__", called)
+
+    def test_barred_words(self):
+        for name, tree in trees():
+            for node in ast.walk(tree):
+                words = [getattr(node, field, None) for field in ("attr", "name", "id", "arg")]
+                for word in [word for word in words if isinstance(word, str)]:
+                    self.assertNotIn(word, BARRED_NAMES, name)
+                    self.assertNotIn(word, BARRED_WORDS, name)
+
+    def test_no_attribute_hides_the_method_of_a_dict(self):
+        """Nothing that an object has is called keys: a plan will be indexed by numbers."""
+        for name, tree in trees():
+            for node in ast.walk(tree):
+                if isinstance(node, ast.Attribute) and isinstance(node.ctx, ast.Store):
+                    self.assertNotIn(node.attr, ("keys", "items", "values", "format", "args"), name)
+                if isinstance(node, ast.FunctionDef):
+                    self.assertNotIn(node.name, ("keys", "format", "mro"), name)

@@ -11,7 +11,9 @@ WORDS = (
 
 
 def is_name(word):
-    """Whether the string is a name."""
-    if len(word) == 0 or len(word) > MOST_CHARACTERS or word in WORDS:
+    """Whether this is a name; anything but a string is none."""
+    if not isinstance(word, str) or word in WORDS:
+        return False
+    if len(word) == 0 or len(word) > MOST_CHARACTERS:
         return False
     return word[0] in LETTERS and all([sign in CHARACTERS for sign in word])

@@ -1,5 +1,6 @@
 """What several tests share: short ways to write terms, and a slow second opinion."""
 
+from splitplans.errors import PlanError
 from splitplans.terms import (
     Term, column_term, function_term, head_of, place_term, row_term, rule_term, zero_term,
 )
@@ -42,6 +43,15 @@ def by_function():
         (rule_term("r", city, call), "r[orders.city, f(orders.city, g(orders'.day))]"),
         (rule_term("r", day, city, day), "r[orders'.day, orders.city, orders'.day]"),
     ]
+
+
+def fault(call, *args, **more):
+    """The error that a call raises: its class and its attributes; None if it raises none."""
+    try:
+        call(*args, **more)
+    except PlanError as error:
+        return (error.__class__.__name__, *vars(error).values())
+    return None
 
 
 def texts_of(steps):

@@ -95,7 +95,7 @@ class Walk:
             return self._meet(number, first, self._ruled(number))
         if number in self._plan.exchanges:
             self._check_exchange(number, first)
-            return self._brought(number)
+            return self._behind_exchange(number)
         return first
 
     def _state_of_table(self, table):
@@ -106,17 +106,17 @@ class Walk:
             return State(zero_term())
         if word == "anyhow":
             return State(place_term(table.name))
-        # The columns of a scan are those of its table.
         _, rule, columns = table.lies
         terms = [column_term(table.name, column) for column in columns]
         return State(rule_term(rule, *terms))
 
     def _ruled(self, number):
         """At the worker that the rule of an own or a split gives."""
+        rule = self._plan[number].name
         terms = self._story.terms_of(number, self._plan[number].named)
-        return State(rule_term(self._plan[number].name, *terms))
+        return State(rule_term(rule, *terms))
 
-    def _brought(self, number):
+    def _behind_exchange(self, number):
         """The state behind an exchange."""
         kind = self._plan[number].kind
         if kind == "split":

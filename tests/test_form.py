@@ -23,6 +23,15 @@ INTERFACE = {
     "equalities": ["Equalities(facts=(), keys=None)"],
     "stepcheck": ["shows_same(facts, keys, steps, left, right)", "keeps(facts, keys, numbering)",
                   "shows_apart(facts, keys, numbering, left, right)"],
+    "tables": ["Table(name, columns, *, key=(), lies=('anyhow',))"],
+    "worlds": ["World(tables, rows, *, workers, functions=None, tests=None, rules=None, anyhow=None)"],
+    "plans": ["scan(table)", "Step", "Plan(root, order=())"],
+    "needs": ["needs(plan)", "strict(plan, number)", "collapses(plan)", "collapsed(plan, number)"],
+    "plain": ["plain(plan, world)", "plain_rows(plan, world, number)"],
+    "machine": ["Machine(plan, world)", "First()", "Last()", "Drawn(numbers)", "played(plan, world, moves)"],
+    "stories": ["choices(plan)", "fitting(plan, choice, number)", "Story(plan, choice)",
+                "pair_facts(plan, choice, number, other)"],
+    "places": ["State(term=None, wants=())", "states(plan)", "Failure", "failures(plan)"],
 }
 
 METHODS = {
@@ -31,6 +40,35 @@ METHODS = {
     ("equalities", "Equalities"): [
         "learn(self, left, right)", "follows(self, left, right)", "derive(self, left, right)",
         "numbering(self, *terms)", "suppose(self, pairs, left, right)", "facts", "__len__(self)"],
+    ("tables", "Table"): ["with_lie(self, lies)", "with_key(self, *columns)", "__eq__(self, other)", "__str__(self)"],
+    ("worlds", "World"): [
+        "workers", "rows_of(self, name)", "lying(self, name, worker)", "apply(self, name, values)",
+        "holds(self, name, values)", "worker(self, rule, values)", "set_workers(self, workers)",
+        "with_workers(self, workers)"],
+    ("plans", "Step"): [
+        "where(self, test, *columns)", "compute(self, name, function, *columns)", "equal(self, left, right)",
+        "keep(self, *columns)", "distinct(self)", "group_by(self, *keys, **measures)", "sort_by(self, *columns)",
+        "own_by(self, rule, *columns)", "split_by(self, rule, *columns)", "broadcast(self)", "gather(self)",
+        "merge_by(self, *columns)", "join_with(self, other, on)", "semi_with(self, other, on)",
+        "anti_with(self, other, on)", "__add__(self, other)"],
+    ("plans", "Plan"): [
+        "read(text)", "inputs_of(self, number)", "above(self, number)", "below(self, number)", "__len__(self)",
+        "__getitem__(self, at)", "__contains__(self, x)", "__iter__(self)", "__eq__(self, other)", "__str__(self)"],
+    ("machine", "Machine"): [
+        "open_moves(self)", "move(self, exchange, receiver, sender)", "play(self, chooser)", "look_ahead(self, moves)",
+        "answer(self)", "rows_at(self, number, worker)", "ended", "moved"],
+    ("machine", "First"): ["__call__(self, moves)"],
+    ("machine", "Last"): ["__call__(self, moves)"],
+    ("machine", "Drawn"): ["__call__(self, moves)"],
+    ("stories", "Story"): ["term_of(self, number, column)", "level_of(self, number)", "facts_at(self, level)",
+                           "identity(self, number)", "table_keys(self)"],
+    ("places", "State"): ["__eq__(self, other)", "__str__(self)"],
+}
+
+VALUES = {
+    ("tables", "Table"): {"MOST_COLUMNS": 8},
+    ("worlds", "World"): {"MOST_WORKERS": 16},
+    ("plans", "Plan"): {"MOST_STEPS": 24, "MOST_TABLES": 5, "MOST_UNIONS": 2, "MOST_ANTIS": 2},
 }
 
 LIBRARY = ("heapq", "math", "itertools", "collections", "__future__")
@@ -97,6 +135,12 @@ class Interface(unittest.TestCase):
                     self.assertEqual("read" + str(inspect.signature(owner.read)), each)
                 else:
                     self.assertEqual(method.__name__ + str(inspect.signature(method)), each)
+
+
+    def test_class_values(self):
+        for (module, name), wanted in VALUES.items():
+            owner = getattr(importlib.import_module(f"splitplans.{module}"), name)
+            self.assertEqual({each: vars(owner)[each] for each in wanted}, wanted)
 
 
 class Form(unittest.TestCase):

@@ -53,9 +53,9 @@ def failures(plan):
 
 
 def _order_of(failure):
+    # Within one rank, a step and choice at which something is lost has no other failure.
     other = () if failure.other is None else failure.other
-    later = failure.kind != "lost"
-    return (failure.rank, failure.number, failure.at_end, failure.choice, later, failure.anti, other)
+    return (failure.rank, failure.number, failure.at_end, failure.choice, failure.anti, other)
 
 
 def _walks(plan):
@@ -134,7 +134,8 @@ class Walk:
     def _meet(self, number, left, right, at_end=False):
         """The state where two meet at a step, or at the answer."""
         if left.term is None and right.term is None:
-            return State(None, sorted(left.wants + right.wants, key=_anti_in))
+            # The antis of a left side have lower numbers than those of the right one.
+            return State(None, left.wants + right.wants)
         if left.term is not None and right.term is not None:
             self._check_lost(number, left.term, right.term, at_end)
             return State(left.term)
@@ -186,10 +187,6 @@ def _lie_apart(plan, choice, number, other, left, right):
     facts = pair_facts(plan, choice, number, other)
     keys = Story(plan, choice).table_keys()
     return not Equalities(facts, keys).follows(left, right.second())
-
-
-def _anti_in(want):
-    return want[0]
 
 
 def _wanted(anti, state):

@@ -232,3 +232,39 @@ class Form(unittest.TestCase):
                     self.assertNotIn(node.attr, ("keys", "items", "values", "format", "args"), name)
                 if isinstance(node, ast.FunctionDef):
                     self.assertNotIn(node.name, ("keys", "format", "mro"), name)
+
+    def test_no_name_is_a_method_and_an_attribute(self):
+        alone = set()
+        stored = set()
+        for name, tree in trees():
+            for owner in [node for node in ast.walk(tree) if isinstance(node, ast.ClassDef)]:
+                own = [node for node in owner.body if isinstance(node, ast.FunctionDef)]
+                mine = {node.attr for node in ast.walk(owner)
+                        if isinstance(node, ast.Attribute) and isinstance(node.ctx, ast.Store)}
+                self.assertEqual({node.name for node in own if not node.decorator_list} & mine, set(), name)
+                alone |= {node.name for node in own if node.decorator_list}
+                stored |= {attr for attr in mine if attr != "workers"}
+        self.assertEqual(alone & stored, set())
+
+    def test_local_names_are_no_imports_and_no_classes(self):
+        for name, tree in trees():
+            taken = {alias.name for node in tree.body if isinstance(node, ast.ImportFrom) for alias in node.names}
+            used = {node.id for node in ast.walk(tree) if isinstance(node, ast.Name)}
+            self.assertLessEqual(taken, used, name)
+            taken |= {node.name for node in tree.body if isinstance(node, ast.ClassDef)}
+            inside = {node.id for node in ast.walk(tree)
+                      if isinstance(node, ast.Name) and isinstance(node.ctx, ast.Store)}
+            inside |= {node.arg for node in ast.walk(tree) if isinstance(node, ast.arg)}
+            self.assertEqual(inside & taken, set(), name)
+
+    def test_sets_generators_and_identity(self):
+        for name, tree in trees():
+            above = {below: node for node in ast.walk(tree) for below in ast.iter_child_nodes(node)}
+            for node in ast.walk(tree):
+                self.assertNotIsInstance(node, (ast.GeneratorExp, ast.Set, ast.SetComp), name)
+                if isinstance(node, ast.Call) and isinstance(node.func, ast.Name) and node.func.id == "set":
+                    self.assertIn(ast.unparse(above[node].func), ("sorted", "len"), name)
+                if isinstance(node, ast.Compare):
+                    for sign, right in zip(node.ops, node.comparators):
+                        if isinstance(sign, (ast.Is, ast.IsNot)):
+                            self.assertIn(ast.unparse(right), ("None", "True", "False"), name)

@@ -89,6 +89,15 @@ class Needs(unittest.TestCase):
                          [ROWS, rows("an"), ROWS, rows("bs"), rows("an", "bs"), rows("bs", "an")])
         self.assertEqual(needed(joined.keep("a1").distinct()), [SET] * 6 + [ROWS])
 
+    def test_join_of_measures_of_one_side(self):
+        left = counted("a").join_with(base("b"), [("a1", "b1")])
+        self.assertEqual(needed(left), [ROWS, rows("an", "as"), ROWS, rows("an", "as")])
+        right = base("b").join_with(counted("a"), [("b1", "a1")])
+        self.assertEqual(needed(right), [ROWS, ROWS, rows("an", "as"), rows("an", "as")])
+        two = counted("a").join_with(counted("b"), [("a1", "b1")])
+        self.assertEqual(needed(two.keep("as")), [ROWS, rows("as"), SET, ROWS, rows("as"), rows("as")])
+        self.assertEqual(needed(two.keep("bs")), [SET, ROWS, ROWS, rows("bs"), rows("bs"), rows("bs")])
+
     def test_join_of_parts(self):
         joined = counted("a").join_with(counted("b"), [("a1", "b1")])
         self.assertEqual(needed(joined.group_by("a1", s=("sum", "as"), n=("sum", "an"))),
@@ -144,6 +153,10 @@ class Needs(unittest.TestCase):
         self.assertEqual(needed(step.group_by("a1", s=("sum", "as"), p=("sum", "a1"))),
                          [ROWS, rows("as"), rows("s", "p")])
         self.assertEqual(needed(step.group_by("a1", n="count")), [SET, ROWS, rows("n")])
+
+    def test_a_measure_that_nothing_sums(self):
+        step = base("a").group_by("a1", c=("sum", "a2"), o="count", n="count")
+        self.assertEqual(needed(step.group_by("a1", x="count", y=("sum", "n"))), [ROWS, rows("n"), rows("x", "y")])
 
     def test_group_with_measures_that_are_not_asked_for(self):
         step = counted("a").group_by("a1", s=("sum", "as"), n="count", p=("sum", "a1"))

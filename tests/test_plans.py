@@ -69,6 +69,8 @@ class Numbers(unittest.TestCase):
                 self.assertEqual(fault(call, number), ("InvalidPlan", number, "number"))
         for number in range(1, 15):
             self.assertIn(number, self.plan)
+        for thing in (None, "1", self.root, (1,)):
+            self.assertNotIn(thing, self.plan)
 
     def test_what_was_returned_may_be_changed(self):
         self.plan.inputs_of(5).clear()

@@ -78,7 +78,7 @@ class Workers(unittest.TestCase):
         self.assertEqual(World.MOST_WORKERS, 16)
         for many in (1, 2, 15, 16):
             self.assertEqual(world(workers=many).workers, many)
-        for many in (0, 17, -1, -HUGE, HUGE):
+        for many in (0, 17, -1, -HUGE, HUGE, None, "2"):
             self.assertEqual(fault(world, workers=many), ("InvalidWorld", "workers"))
 
     def test_three_ways_to_another_number(self):
@@ -175,6 +175,11 @@ class Lying(unittest.TestCase):
         self.assertEqual([found.lying("s", at) for at in range(3)], [[(4,), (3,)]] * 3)
         self.assertEqual([found.lying("z", at) for at in range(3)], [[(1, 1, 1), (0, 0, 0)], [], []])
         self.assertEqual([found.lying("d", at) for at in range(3)], [[(6, 2)], [(5, 1), (5, 1)], [(7, 3)]])
+
+    def test_at_a_number_that_is_no_worker_nothing_lies(self):
+        found = world({"t": [(1, 1)], "s": [(4,)], "z": [(1, 1, 1)], "d": [(5, 1)]}, workers=3)
+        for name in ("t", "s", "z", "d"):
+            self.assertEqual([found.lying(name, at) for at in (-1, 3, HUGE)], [[], [], []])
 
     def test_a_table_that_is_missing_from_anyhow(self):
         found = world({"t": [(1, 1), (2, 2)]}, workers=16)

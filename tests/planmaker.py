@@ -1,7 +1,9 @@
 """Plans and worlds that look drawn, the same ones in each run and under each Python."""
 
 from splitplans.errors import InputError, SizeError
+from splitplans.places import failures
 from splitplans.plans import Plan, scan
+from splitplans.rebuilding import rebuilt
 from splitplans.tables import Table
 from splitplans.worlds import World
 
@@ -164,3 +166,75 @@ def all_tuples(values, many):
     for _ in range(many):
         found = [one + (value,) for one in found for value in range(values)]
     return found
+
+
+def edited(plan, behind, gone=(), order=None):
+    """The plan with steps put behind others, and some taken out."""
+    tables = {table.name: table for table in plan.tables}
+    return Plan(rebuilt(plan, tables, behind, gone), plan.order if order is None else order)
+
+
+def mended(dice, plan, tries=14):
+    """The plan with exchanges where it failed, until it has no failure but by rank 3, or none left."""
+    for _ in range(tries):
+        found = failures(plan)
+        if not found or found[0].rank == 3:
+            return plan
+        try:
+            plan = mended_at(dice, plan, found[0])
+        except (InputError, SizeError):
+            pass
+    return plan
+
+
+def mended_at(dice, plan, failure):
+    number, step = failure.number, plan[failure.number]
+    if failure.at_end:
+        return edited(plan, {number: [("gather", [])]})
+    if number in plan.exchanges or step.kind == "own":
+        return edited(plan, {}, [number])
+    left, right = plan.inputs_of(number)
+    ours = ["r"] + [column for column, _ in step.pairs]
+    theirs = ["r"] + [column for _, column in step.pairs]
+    put = [
+        {left: [("gather", [])], right: [("gather", [])]},
+        {right: [("broadcast", [])]},
+        {left: [("broadcast", [])]},
+        {left: [("split", ours)], right: [("split", theirs)]},
+        {left: [("own", ours)], right: [("split", theirs)]},
+    ]
+    return edited(plan, dice.one_of(put))
+
+
+def drawn_mended_plan(dice, most_steps=10):
+    """A plan that mostly has its rows at the right places, in half of the cases with an order."""
+    plan = mended(dice, drawn_plan(dice, most_steps))
+    plain = [column for column in plan.root.columns if column not in plan.root.measures]
+    order = []
+    if plain and dice.below(2):
+        for _ in range(1 + dice.below(min(3, len(plain)))):
+            order.append(plain.pop(dice.below(len(plain))))
+    return Plan(plan.root, order)
+
+
+def drawn_small_plan(dice, most_steps=5):
+    """A plan that can be placed upon."""
+    while True:
+        plan = drawn_plan(dice, most_steps, False)
+        two = len(plan.unions) == 1 and len(plan.antis) == 2
+        if len(plan) <= 8 and len(plan.unions) < 2 and not two and not plan.exchanges:
+            return Plan(plan.root)
+
+
+def drawn_menu(dice, plan, most=3):
+    columns = sorted({column for step in plan for column in step.columns})
+    menu = []
+    for _ in range(1 + dice.below(most)):
+        kind = dice.below(5)
+        entry = ("broadcast",) if kind == 0 else ("gather",)
+        if kind > 2:
+            named = dict.fromkeys(dice.one_of(columns) for _ in range(1 + dice.below(2)))
+            entry = ("split", dice.one_of(("r", "q")), tuple(named))
+        if entry not in menu:
+            menu.append(entry)
+    return menu

@@ -74,7 +74,7 @@ class CaseLooker:
         """Whether a column behind others that are equal is the claim's own column in both rows."""
         _, at, ties, told = case
         pairs = self._pairs_at(number)
-        if not is_integer(at) or not 0 <= at < len(pairs) or not isinstance(told, tuple) or len(told) != 2:
+        if not is_integer(at) or not 0 <= at < len(pairs) or not isinstance(told, tuple):
             return False
         wanted = list(zip(pairs[at], self._told))
         return self._shows_all(facts, ties, pairs[:at]) and self._shows_all(facts, list(told), wanted)

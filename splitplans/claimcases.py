@@ -146,7 +146,8 @@ class Asker:
         return ties
 
     def _break(self, equalities, first_early, rising=(), apart=None, early=0):
-        """Note the breach: that the row that comes first has the greater value."""
+        """Note the breach, that the row that comes first has the greater value; there is no case."""
         left, right = self._told
         falling = (right, left) if first_early else (left, right)
         self.breach = Breach(equalities.facts, [*rising, falling], apart, early)
+        return None

@@ -67,20 +67,27 @@ class Desk:
         return plan
 
 
-def _is_form(thing, lengths):
-    """Whether this is a tuple that begins with one of these words and is as long as that asks."""
+def _word_of(thing):
+    """The word with which a tuple begins; the empty string for anything else."""
     if not isinstance(thing, tuple) or len(thing) == 0 or not isinstance(thing[0], str):
-        return False
-    return lengths.get(thing[0]) == len(thing)
+        return ""
+    return thing[0]
 
 
 def _is_deed(thing):
-    return _is_form(thing, DEEDS) and (thing[0] != "key" or isinstance(thing[2], (list, tuple)))
+    """Whether this is a deed of try_all, with columns where it has some."""
+    word = _word_of(thing)
+    if word not in DEEDS or DEEDS[word] != len(thing):
+        return False
+    return word != "key" or isinstance(thing[2], (list, tuple))
 
 
 def _is_exchange(thing):
     """Whether this is an exchange or own of a known form, with a tuple of columns where it has some."""
-    return _is_form(thing, EXCHANGES) and (len(thing) == 1 or isinstance(thing[-1], tuple))
+    word = _word_of(thing)
+    if word not in EXCHANGES or EXCHANGES[word] != len(thing):
+        return False
+    return len(thing) == 1 or isinstance(thing[-1], tuple)
 
 
 def _after(plan, word, about, told=None):

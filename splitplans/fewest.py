@@ -1,7 +1,7 @@
 """The fewest exchanges that make a plan right, with a table that shows that fewer do not."""
 
 from splitplans.equalities import Equalities
-from splitplans.errors import InvalidMenu, InvalidPlan
+from splitplans.errors import InvalidMenu
 from splitplans.ground import Ground, asked_levels, asked_pairs, entry_states
 from splitplans.menus import check_placing, fits, fits_as_own
 from splitplans.places import states
@@ -60,10 +60,9 @@ def placed(plan, menu, at):
     check_placing(plan, menu)
     behind = {}
     for edge in sorted(list(at)):
-        if edge not in plan:
-            raise InvalidPlan(edge, "number")
-        own, exchange = at[edge]
+        # Raises InvalidPlan for an edge that is no step.
         step = plan[edge]
+        own, exchange = at[edge]
         if own is not None and (own not in range(len(menu)) or not fits_as_own(step, menu[own])):
             raise InvalidMenu(own, "edge")
         if exchange is not None and (exchange not in range(len(menu)) or not fits(step, menu[exchange])):
@@ -92,7 +91,8 @@ def _exact_numberings(plan, menu):
     numberings = {}
     for choice, level in asked_levels(plan):
         facts = Story(plan, choice).facts_at(level)
-        numberings[choice, level] = Equalities(facts).numbering(*terms[choice])
+        taken = terms[choice]
+        numberings[choice, level] = Equalities(facts).numbering(*taken)
     pairs = {}
     for number, choice, other in asked_pairs(plan):
         facts = pair_facts(plan, choice, number, other)
@@ -162,7 +162,7 @@ class Search:
             return found
         ways = [[]]
         for source in self._plan.inputs_of(number):
-            ways = [below + [entry] for below in ways for entry in self._sent[source].values()]
+            ways = [way + [entry] for way in ways for entry in self._sent[source].values()]
         for below in ways:
             row = self._ground.row_made(number, [entry.row for entry in below])
             self._add(found, Entry(number, row, sum([entry.cost for entry in below]), below))

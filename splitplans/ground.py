@@ -93,7 +93,7 @@ class Ground:
         for at in range(len(self.choices)):
             state = None
             if self.meets(number, self.choices[at]):
-                state = self._made(number, self.choices[at], [row[at] for row in rows])
+                state = self._state_made(number, self.choices[at], [row[at] for row in rows])
                 if state is None:
                     return None
             found.append(state)
@@ -158,7 +158,7 @@ class Ground:
         judges = self.judges(number, choice)
         return [numbering[second.text if marked else term.text] for numbering, marked in judges]
 
-    def _made(self, number, choice, below):
+    def _state_made(self, number, choice, below):
         """The state that a step makes, in a choice, of the states below it."""
         kind = self._plan[number].kind
         if kind == "union":

@@ -142,7 +142,7 @@ class Looker:
 
 def _takes_reason(reason, words, facts, known_keys, left, right):
     """Whether a reason has these words and a derivation of what is asked."""
-    if not isinstance(reason, tuple) or len(reason) != len(words) + 1 or reason[:-1] != words:
+    if not isinstance(reason, tuple) or reason[:-1] != words:
         return False
     return shows_same(facts, known_keys, reason[-1], left, right)
 

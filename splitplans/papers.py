@@ -36,7 +36,7 @@ def paper_of(plan):
     known = states(plan)
     lines = []
     for choice in choices(plan):
-        lines.extend(Liner(plan, choice, known).lines())
+        lines.extend(Liner(plan, choice, known).written())
     return Paper(lines, [case_of(plan, known, claim) for claim in claims(plan)])
 
 
@@ -51,7 +51,7 @@ class Liner:
         self._collapses = collapses(plan)
         self._equalities = {}
 
-    def lines(self):
+    def written(self):
         """The lines, in number order."""
         return [self._line(number) for number in self._story.met]
 

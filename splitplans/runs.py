@@ -1,7 +1,7 @@
 """Runs that show that a plan is not right, their player, and verdicts."""
 
 from splitplans.errors import InvalidWorld, NoMove, NotEnded
-from splitplans.machine import Machine, played
+from splitplans.machine import First, Machine, played
 from splitplans.orders import breach_of, broken_claim
 from splitplans.papers import paper_of
 from splitplans.places import failures, states
@@ -47,7 +47,7 @@ def run_of(plan):
     """A run that breaks the plan, or None if the plan is right."""
     found = failures(plan)
     if found:
-        return _played_out(plan, world_of_failure(plan, found[0]), Early(0, 0))
+        return _played_out(plan, world_of_failure(plan, found[0]), First())
     claim = broken_claim(plan)
     if claim is None:
         return None

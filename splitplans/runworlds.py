@@ -22,12 +22,11 @@ def world_of_failure(plan, failure):
         return _world_of_apart(plan, failure)
     story = Story(plan, failure.choice)
     level = () if failure.anti == 0 else (failure.anti,)
-    apart = None
-    if failure.left is not None and failure.right is not None:
-        apart = (failure.left, failure.right)
+    # At an exchange there is no term that must differ from the want's.
+    apart = None if failure.left is None else (failure.left, failure.right)
     scene = Scene(plan, story.facts_at(level), {}, [], apart)
     scene.enter(story, [number for number in story.met if story.level_of(number) in ((), level)], False)
-    return scene.world()
+    return scene.built()
 
 
 def world_of_breach(plan, claim, breach):
@@ -37,7 +36,7 @@ def world_of_breach(plan, claim, breach):
     scene = Scene(plan, breach.alike, first.table_keys(), breach.rising, breach.apart)
     scene.enter(first, _outer(first, first.met), False)
     scene.enter(second, _outer(second, second.met), True)
-    world = scene.world()
+    world = scene.built()
     return (world, 0 if breach.apart is None else scene.worker_of(breach.apart[0]))
 
 
@@ -50,7 +49,7 @@ def _world_of_apart(plan, failure):
     scene = Scene(plan, facts, first.table_keys(), [], (failure.left, failure.right.second()))
     scene.enter(first, _outer(first, first.met), False)
     scene.enter(second, _outer(second, inside), True)
-    return scene.world()
+    return scene.built()
 
 
 def _outer(story, numbers):
@@ -87,9 +86,9 @@ class Scene:
             if step.kind == "scan":
                 self._entered.append((step.table, marked, anti_over(self._plan, number)))
 
-    def world(self):
+    def built(self):
         """The world of all rows that have entered."""
-        self._number()
+        self._give_values()
         tests = {}
         for number in range(1, len(self._plan) + 1):
             step = self._plan[number]
@@ -115,7 +114,7 @@ class Scene:
             for part in term.subterms():
                 self._terms[part.text] = part
 
-    def _number(self):
+    def _give_values(self):
         """Give each class of equal terms a value of its own."""
         terms = list(self._terms.values())
         self._classes = self._equalities.numbering(*terms)

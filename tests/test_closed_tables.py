@@ -84,6 +84,30 @@ class Tables(unittest.TestCase):
             texts = [tuple(str(state) for state in row) for row, _ in lists]
             self.assertEqual(len(set(texts)), len(texts))
 
+    def test_wants_in_rows(self):
+        table = fewest(WAITING, WAITING_MENU).table
+        texts = [str(row[0]) for row, _ in table.made[5]]
+        self.assertIn("everywhere, wants 3 r[a.k], 5 r[b.j]", texts)
+        self.assertIn("everywhere, wants 3 0, 5 r[b.j]", texts)
+        self.assertEqual([(str(row[0]), cost) for row, cost in table.made[2]], [("at r[a.k]", 0)])
+        self.assertEqual([(str(row[0]), cost) for row, cost in table.sent[2]], [("at r[a.k]", 0), ("at 0", 1)])
+
+    def test_loose_and_strict_exchanges(self):
+        """What lies everywhere is brought together where it is loose, not where it is strict."""
+        loose = fewest(Plan(scan(COPIED_C).distinct()), [GATHER]).table
+        self.assertEqual(loose.sent[1], [((State(),), 0), ((ZERO,), 1)])
+        self.assertEqual(loose.sent[2], [((State(),), 0), ((ZERO,), 1)])
+        strict = fewest(Plan(scan(COPIED_C)), [GATHER]).table
+        self.assertEqual(strict.sent[1], [((State(),), 0)])
+
+    def test_collapses_and_antis_of_one_choice(self):
+        left, right = ("left",), ("right",)
+        root = scan(A).group_by("k", n="count") + scan(COPIED_C).anti_with(scan(B), [("h", "j")])
+        table = fewest(Plan(root), [GATHER]).table
+        self.assertEqual(sorted(table.pairs), [(2, left, left)])
+        self.assertEqual(sorted(table.numberings), [(left, ()), (right, ()), (right, (5,))])
+        self.assertTrue(shows_no_fewer(Plan(root), [GATHER], table, 2))
+
     def test_what_is_passed_is_copied(self):
         numberings, pairs, made, sent = copied(fewest(JOINED, JOINED_MENU).table)
         table = ClosedTable(numberings, pairs, made, sent)
@@ -252,6 +276,100 @@ class Looker(unittest.TestCase):
             self.assertFalse(self.shows(plan, menu, placing.table, placing.cost, with_row(row)), row)
         for cost in (None, "5", True, (5,)):
             self.assertFalse(self.shows(plan, menu, placing.table, placing.cost, with_row(good, cost)))
+        for pair in (None, (), [good, 5], (good,), (good, 5, 5), good, "pair", 5):
+            def change(numberings, pairs, made, sent):
+                made[1].append(pair)
+            self.assertFalse(self.shows(plan, menu, placing.table, placing.cost, change), pair)
+
+    def test_a_scan_whose_term_is_nowhere(self):
+        plan = Plan(scan(A))
+        rows = {1: [((ZERO,), 0)]}
+        for numbering in ({"0": 0}, {"0": 0, "a": 1}):
+            table = ClosedTable({((), ()): numbering}, {}, rows, rows)
+            self.assertFalse(shows_no_fewer(plan, [GATHER], table, 0))
+        # A numbering that makes the two places one shows less, but shows it.
+        table = ClosedTable({((), ()): {"0": 0, "a": 1, "@a": 0}}, {}, rows, rows)
+        self.assertTrue(shows_no_fewer(plan, [GATHER], table, 0))
+        self.assertFalse(shows_no_fewer(plan, [GATHER], table, 1))
+
+    def test_alike_by_the_numbering_of_the_level_alone(self):
+        """In the anti's right side r[a.k] is r[c.h], by the anti's own pairs."""
+        plan, menu, placing = self.found[1]
+        there = (State(read("r[c.h]")),)
+
+        def put(number):
+            def change(numberings, pairs, made, sent):
+                for lists in (made, sent):
+                    lists[number][0] = (there, lists[number][0][1])
+            return change
+        self.assertEqual(str(placing.table.made[2][0][0][0]), "at r[a.k]")
+        self.assertTrue(self.shows(plan, menu, placing.table, 1, put(2)))
+        # Not so in that of the other anti.
+        self.assertFalse(self.shows(plan, menu, placing.table, 1, put(1)))
+
+    def test_alike_by_facts(self):
+        plan, menu, placing = self.found[0]
+        self.assertEqual(placing.cost, 2)
+
+        def change(numberings, pairs, made, sent):
+            for lists in (made, sent):
+                for number in (3, 4):
+                    lists[number] = [((State(read("r[b.j]")),) if str(row[0]) == "at r[a.x]" else row, cost)
+                                     for row, cost in lists[number]]
+        parts = copied(placing.table)
+        change(*parts)
+        self.assertNotEqual(sorted_rows(parts[2][3]), sorted_rows(placing.table.made[3]))
+        self.assertTrue(self.shows(plan, menu, placing.table, 2, change))
+
+    def test_unlike_by_a_pair_alone(self):
+        """A coarse numbering of the level does not make alike what a pair tells apart."""
+        plan = Plan(scan(A).group_by("x", n="count"))
+        menu = [GATHER, SPLIT]
+        placing = fewest(plan, menu)
+        self.assertEqual(placing.cost, 1)
+
+        def coarse(numberings, pairs, made, sent):
+            numbering = numberings[(), ()]
+            numbering["@a"] = numbering["r[a.x]"]
+
+        def without_split(numberings, pairs, made, sent):
+            coarse(numberings, pairs, made, sent)
+            sent[1] = [(row, cost) for row, cost in sent[1] if str(row[0]) != "at r[a.x]"]
+        self.assertTrue(self.shows(plan, menu, placing.table, 1, coarse))
+        self.assertFalse(self.shows(plan, menu, placing.table, 1, without_split))
+
+    def test_unlike_by_an_anti_alone(self):
+        plan = Plan(scan(DEALT_A).anti_with(scan(B), [("k", "j")]))
+        menu = [GATHER, SPLIT]
+        placing = fewest(plan, menu)
+
+        def coarse(numberings, pairs, made, sent):
+            numbering = numberings[(), ()]
+            numbering["r[a.k]"] = numbering["r[a.x]"]
+
+        def without_split(numberings, pairs, made, sent):
+            coarse(numberings, pairs, made, sent)
+            sent[1] = [(row, cost) for row, cost in sent[1] if str(row[0]) != "at r[a.x]"]
+        self.assertFalse(self.shows(plan, menu, placing.table, placing.cost, without_split))
+
+    def test_terms_that_only_other_steps_ask_for(self):
+        """A pair need not have the terms of steps above its collapse, nor a level those of a right side."""
+        plan = Plan(scan(A).group_by("x", n="count").join_with(scan(B), [("x", "j")]))
+        placing = fewest(plan, [GATHER])
+        self.assertIn("@b", placing.table.pairs[2, (), ()])
+
+        def from_pair(numberings, pairs, made, sent):
+            for text in ("@b", "@b'"):
+                del pairs[2, (), ()][text]
+
+        def from_level(numberings, pairs, made, sent):
+            del numberings[(), ()]["@b"]
+        self.assertTrue(self.shows(plan, [GATHER], placing.table, placing.cost, from_pair))
+        self.assertFalse(self.shows(plan, [GATHER], placing.table, placing.cost, from_level))
+        right = Plan(scan(C.with_lie(("zero",))).anti_with(scan(A), [("h", "k")]))
+        placing = fewest(right, [GATHER])
+        self.assertTrue(self.shows(right, [GATHER], placing.table, 1, lambda numberings, *rest: numberings[(), ()].pop("@a")))
+        self.assertFalse(self.shows(right, [GATHER], placing.table, 1, lambda numberings, *rest: numberings[(), (3,)].pop("@a")))
 
     def test_wants(self):
         plan, menu, placing = self.found[1]

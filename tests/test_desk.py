@@ -125,7 +125,7 @@ class Steps(DeskTest):
         wrong = [None, (), "gather", ["gather"], ("gather", ()), ("gather", "r"), ("broadcast", ("k",)), ("split", "r"),
                  ("split", "r", ["k"]), ("split", "r", "k"), ("split", ("k",)), ("split", "r", ("k",), 1), ("own", ("k",)),
                  ("own", "r", ["k"]), ("own", "r", None), ("merge", "k"), ("merge", ["k"]), ("merge",), ("merge", "r", ("k",)),
-                 ("sort", ("k",)), ("where", "p", ("k",)), ("distinct",), (None,), (1, ("k",)), ("Gather",), ((),), 5]
+                 ("sort", ("k",)), ("where", "p", ("k",)), ("distinct",), (None,), (1, ("k",)), ("Gather",), ((),), ([],), ({}, ("k",)), 5]
         for exchange in wrong:
             self.assertEqual(self.unchanged(self.desk.put, 1, exchange), ("InvalidStep", "form"), exchange)
 
@@ -271,7 +271,7 @@ class TryAll(DeskTest):
         good = ("put", 1, ("gather",))
         wrong = [None, (), "undo", ("undo",), ("lie", "a"), ("lie", "a", ("zero",), 1), ("key", "a"), ("put", 1), ("put",),
                  ("put", 1, ("gather",), 2), ("take",), ("take", 1, 1), ["take", 1], list(good), ("set_lie", "a", ("zero",)),
-                 (None, 1), (1, 2), (("take",), 1), ("Take", 1), 7, {}, ("key", "a", None), ("try_all", [])]
+                 (None, 1), (1, 2), (("take",), 1), (["take"], 1), ({}, 1), ("Take", 1), 7, {}, ("key", "a", None), ("try_all", [])]
         for deed in wrong:
             self.assertEqual(self.unchanged(self.desk.try_all, [deed]), ("UnknownDeed", 0), deed)
             self.assertEqual(self.unchanged(self.desk.try_all, [good, good, deed, None]), ("UnknownDeed", 2), deed)

@@ -175,6 +175,12 @@ class Fewest(unittest.TestCase):
         self.assertEqual(self.cost(scan(ZERO_A) + scan(B), GATHER), 1)
         self.assertEqual(fewest(Plan(scan(ZERO_A) + scan(B)), [GATHER]).at in ({2: (None, 0)}, {3: (None, 0)}), True)
 
+    def test_an_anti_in_one_choice(self):
+        zero_c = C.with_lie(("zero",))
+        self.assertEqual(self.cost(scan(ZERO_A) + scan(ZERO_B).anti_with(scan(zero_c), [("j", "h")]), GATHER), 0)
+        self.assertEqual(self.cost(scan(ZERO_A) + scan(ZERO_B).anti_with(scan(C), [("j", "h")]), GATHER), 1)
+        self.assertEqual(self.cost(scan(ZERO_A).anti_with(scan(zero_c), [("k", "h")]) + scan(B), GATHER), 1)
+
     def test_antis(self):
         root = scan(COPIED_C).anti_with(scan(A), [("h", "k")]).anti_with(scan(B), [("h", "j")])
         self.assertEqual(self.cost(root, GATHER), 2)

@@ -268,6 +268,23 @@ class Holds(unittest.TestCase):
         self.assertEqual(holds(base.gather(), "k"), [False])
         self.assertEqual(holds(base.merge_by("k"), "k"), [False])
 
+    def test_one_row_at_one_sender_and_one_everywhere(self):
+        for left, right in ((A, C.with_lie(("copied",))), (A.with_lie(("copied",)), C)):
+            base = (scan(left) + scan(right)).sort_by("k")
+            self.assertEqual(holds(base.gather(), "k")[1], False)
+            self.assertEqual(holds(base.merge_by("k"), "k")[1], False)
+
+    def test_a_column_that_tells_in_one_choice_alone(self):
+        """The sorted column is the order's by the facts of one input, not by those of the other."""
+        free = ("anyhow",)
+        for equal_left, equal_right, wanted in ((True, False, [True, False, False]), (False, True, [False, False, True]),
+                                                (True, True, [True] * 3)):
+            a, b = scan(A.with_lie(free)), scan(B.with_lie(free))
+            union = (a.equal("k", "x") if equal_left else a) + (b.equal("j", "y") if equal_right else b)
+            self.assertEqual(holds(union.sort_by("x"), "k"), wanted)
+            self.assertEqual(holds(union.sort_by("x").merge_by("x"), "k"), wanted)
+            self.assertEqual(holds(union.group_by("x", "k"), "k"), wanted)
+
     def test_merges(self):
         free = scan(A.with_lie(("anyhow",)))
         self.assertEqual(holds(free.sort_by("k").merge_by("k"), "k"), [True])
@@ -316,3 +333,29 @@ class Identities(unittest.TestCase):
         self.assertEqual(identity_pairs(plan, left, left, 5), pairs("a = a'", "c = c'"))
         self.assertEqual(identity_pairs(plan, left, right, 4), pairs("c = c'"))
         self.assertEqual(identity_pairs(plan, left, right, 7), pairs("a.k = b'.j"))
+
+    def test_where_the_unlike_inputs_are(self):
+        """In the right input of a join, but not in that of a semi, and not below a distinct."""
+        union = scan(A) + scan(B)
+        left, right = ("left",), ("right",)
+        for root, number, wanted in (
+                (scan(C).join_with(union, [("h", "k")]), 5, None),
+                (scan(C).semi_with(union, [("h", "k")]), 5, pairs("c = c'")),
+                (scan(C).anti_with(union, [("h", "k")]), 5, pairs("c = c'")),
+                (union.semi_with(scan(C), [("k", "h")]), 5, None),
+                (union.distinct().where("p", "k"), 5, pairs("a.k = b'.j", "a.x = b'.y")),
+                (union.group_by("x").keep("x"), 5, pairs("a.x = b'.y"))):
+            plan = Plan(root)
+            found = identity_pairs(plan, Story(plan, left), Story(plan, right), number)
+            self.assertEqual(found, wanted, root.kind)
+
+    def test_one_union_above_another(self):
+        plan = Plan(scan(A) + scan(B) + scan(C))
+        words = ("left", "right")
+        stories = {(one, other): Story(plan, (one, other)) for one in words for other in words}
+        first = stories["left", "left"]
+        self.assertEqual(identity_pairs(plan, first, stories["right", "left"], 5), None)
+        self.assertEqual(identity_pairs(plan, first, stories["left", "right"], 5), None)
+        self.assertEqual(identity_pairs(plan, first, first, 5), pairs("a = a'"))
+        # The inner union is not met where the outer one is followed to the right.
+        self.assertEqual(identity_pairs(plan, stories["left", "right"], stories["right", "right"], 5), pairs("c = c'"))

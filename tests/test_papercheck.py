@@ -405,6 +405,72 @@ class Cases(unittest.TestCase):
         self.assertFalse(case_taken(gathered, ("both", by_k, by_k)))
         self.assertTrue(case_taken(gathered, ("sender", [("self", zero_term())], by_k)))
 
+    def test_both_stands_at_a_merge_alone(self):
+        plan = Plan(scan(A).sort_by("k").split_by("r", "k").sort_by("k").merge_by("k"), ["k"])
+        by_k = paper_of(plan).cases[0][2]
+        below = ("sender", [("self", zero_term())], by_k)
+        split = ("sender", [("fact", 0)], below)
+        self.assertTrue(case_taken(plan, ("both", by_k, by_k)))
+        for wrong in (split, ("both", by_k, None), ("both", None, by_k), ("both", by_k, ()), ("both", by_k, ["by"]),
+                      ("both", by_k, ("equal", []))):
+            self.assertFalse(case_taken(plan, wrong), wrong)
+        free = Plan(scan(A).sort_by("k").split_by("r", "k").group_by("k").merge_by("k"), ["k"])
+        self.assertTrue(shows_right(free, paper_of(free)))
+        ties = Plan(scan(A).sort_by("k", "x").split_by("r", "k").sort_by("k").merge_by("k"), ["k", "x"])
+        self.assertEqual(paper_of(ties).cases[1][0], "sender")
+        sent, (_, tie, inner) = paper_of(ties).cases[1][1:]
+        self.assertEqual(inner[0], "sender")
+        by_x = inner[2]
+        self.assertTrue(case_taken(ties, ("sender", sent, ("ties", tie, inner)), 1))
+        told = ([("self", read("a.k"))], [("self", read("a'.k"))])
+        same = ("by", 0, [], told)
+        self.assertFalse(case_taken(ties, ("sender", sent, ("ties", tie, ("both", by_x, same))), 1))
+        self.assertFalse(case_taken(ties, ("sender", sent, ("ties", tie, ("both", by_x, by_x))), 1))
+
+    def test_both_at_a_split_whose_column_would_tell(self):
+        equal = scan(A).equal("k", "x").sort_by("k").split_by("r", "k").sort_by("k").merge_by("k")
+        plan = Plan(equal, ["k", "x"])
+        by_k = ("by", 0, [], ([("fact", 0)], [("fact", 1)]))
+        sent = Equalities(claim_facts(plan, (), (), 1)).derive(read("r[a.k]"), read("r[a'.k]"))
+        tie, zero = [[("fact", 2)]], [("self", zero_term())]
+        for inner, wanted in ((("sender", zero, by_k), True), (("both", by_k, by_k), False), (by_k, False)):
+            self.assertEqual(case_taken(plan, ("sender", sent, ("ties", tie, inner)), 1), wanted)
+        self.assertTrue(case_taken(plan, ("both", ("ties", tie, ("sender", zero, by_k)), by_k), 1))
+
+    def test_facts_ahead_of_one_sender(self):
+        plan = Plan(scan(FREE_A).sort_by("k", "x").merge_by("k", "x"), ["k", "x"])
+        first, by_x = [("self", read("a'.x"))], paper_of(plan).cases[1][2]
+        for fact, wanted in ((0, True), (1, True), (2, False)):
+            told = ([("fact", fact), ("self", read("a.x"))], first)
+            inner = ("by", 1, [[("fact", 0)]], told)
+            self.assertEqual(case_taken(plan, ("both", inner, by_x), 1), wanted)
+        self.assertTrue(case_taken(plan, ("both", by_x, by_x), 1))
+        # One sender is no fact of the claim, but of the first part alone.
+        late = ("by", 1, [[("fact", 0)]], ([("fact", 1), ("self", read("a.x"))], first))
+        self.assertFalse(case_taken(plan, ("both", by_x, late), 1))
+        self.assertFalse(case_taken(plan, ("both", ("by", 1, [[("fact", 1)]], by_x[3]), by_x), 1))
+
+    def test_right_stands_at_a_join_alone(self):
+        keyed = scan(A.with_key("k")).sort_by("k")
+        plan = Plan(keyed.semi_with(scan(B).sort_by("y"), [("k", "j")]).compute("n", "f", "k"), ["k", "n"])
+        same = paper_of(plan).cases[1]
+        self.assertEqual(same[0], "equal")
+        row = Equalities(claim_facts(plan, (), (), 1), {"a": ["k"]}).derive(read("a"), read("a'"))
+        self.assertTrue(case_taken(plan, ("pass", ("pass", same)), 1))
+        self.assertTrue(case_taken(plan, ("pass", ("one", [row])), 1))
+        self.assertFalse(case_taken(plan, ("pass", ("right", [row], same)), 1))
+        self.assertFalse(case_taken(plan, ("pass", ("left", same)), 1))
+
+    def test_rows_of_unlike_inputs_are_not_one(self):
+        union = scan(A).equal("k", "x") + scan(B).equal("j", "y")
+        plan = Plan(union.sort_by("k"), ["k", "x"])
+        tie = [[("fact", 2)]]
+        same = paper_of(plan).cases[3]
+        self.assertEqual(same[0], "equal")
+        self.assertTrue(case_taken(plan, ("ties", tie, same), 3))
+        for wrong in (("one", []), ("one", [same[1]]), ("ties", tie, ("one", [])), ("ties", tie, ("one", tie))):
+            self.assertFalse(case_taken(plan, wrong, 3), wrong)
+
     def test_unions(self):
         plan = Plan((scan(A).sort_by("k") + scan(B).sort_by("j")).group_by("k"), ["k"])
         paper = paper_of(plan)

@@ -29,8 +29,9 @@ def words_of(reason):
 
 def lines_of(plan):
     """For each line its number, its state and the words of its reasons."""
-    return [(line.number, str(line.state), [words_of(reason) for reason in line.reasons])
-            for line in paper_of(plan)]
+    paper = paper_of(plan)
+    assert shows_right(plan, paper)
+    return [(line.number, str(line.state), [words_of(reason) for reason in line.reasons]) for line in paper]
 
 
 def shape_of(case):
@@ -110,6 +111,10 @@ class Lines(unittest.TestCase):
         self.assertEqual(meet[1][0], ("fact", 1))
         own = Plan(scan(DEALT_A).own_by("r", "k").gather())
         self.assertEqual(lines_of(own)[1], (2, "at r[a.k]", [("meet",)]))
+        # The input's state is kept, and stands on the left.
+        other = Plan(scan(DEALT_A).equal("x", "k").own_by("r", "x").gather())
+        self.assertEqual(lines_of(other)[2], (3, "at r[a.k]", [("meet",)]))
+        self.assertEqual([str(term) for term in paper_of(other).lines[2].reasons[0][1][-1][1:3]], ["r[a.k]", "r[a.x]"])
 
     def test_antis_that_wait(self):
         anti = scan(COPIED_C).anti_with(scan(DEALT_A), [("h", "k")])

@@ -153,8 +153,9 @@ class Scene:
         found = {}
         for term in self._terms.values():
             if term.kind == kind:
+                meaning = found.setdefault(term.name, {})
                 result = self.worker_of(term) if kind == "rule" else self._values_of([term])[0]
-                found.setdefault(term.name, {})[self._values_of(term.parts)] = result
+                meaning[self._values_of(term.parts)] = result
         return found
 
 

@@ -280,3 +280,46 @@ class Form(unittest.TestCase):
                     for sign, right in zip(node.ops, node.comparators):
                         if isinstance(sign, (ast.Is, ast.IsNot)):
                             self.assertIn(ast.unparse(right), ("None", "True", "False"), name)
+
+    def test_stars_in_calls(self):
+        """What a star takes apart in a call is a name or an attribute."""
+        for name, tree in trees():
+            for node in ast.walk(tree):
+                if isinstance(node, ast.Call):
+                    for part in node.args:
+                        if isinstance(part, ast.Starred):
+                            self.assertIsInstance(part.value, (ast.Name, ast.Attribute), (name, node.lineno))
+
+    def test_dicts_of_files_are_only_read(self):
+        """A dict or list that stands at module level is not passed on, returned or given another name."""
+        own = {f"splitplans.{name[:-3]}": [
+            node.targets[0].id for node in tree.body
+            if isinstance(node, ast.Assign) and isinstance(node.value, (ast.Dict, ast.List))] for name, tree in trees()}
+        self.assertIn("DEEDS", own["splitplans.desk"])
+        for name, tree in trees():
+            shared = own[f"splitplans.{name[:-3]}"] + [
+                alias.name for node in tree.body if isinstance(node, ast.ImportFrom)
+                for alias in node.names if alias.name in own.get(node.module, ())]
+            above = {below: node for node in ast.walk(tree) for below in ast.iter_child_nodes(node)}
+            for node in ast.walk(tree):
+                if isinstance(node, ast.Name) and node.id in shared and isinstance(node.ctx, ast.Load):
+                    over = above[node]
+                    copied = isinstance(over, ast.Call) and ast.unparse(over.func) in ("list", "dict", "len")
+                    self.assertTrue(copied or isinstance(over, (ast.Subscript, ast.Compare, ast.Attribute)), (name, node.id))
+
+    def test_kept_ranges_and_views(self):
+        """What goes over a dict or counts is iterated at once, or a range in a local variable."""
+        for name, tree in trees():
+            above = {below: node for node in ast.walk(tree) for below in ast.iter_child_nodes(node)}
+            for node in ast.walk(tree):
+                if not isinstance(node, ast.Call):
+                    continue
+                called = ast.unparse(node.func)
+                over = above[node]
+                at_once = isinstance(over, (ast.For, ast.comprehension)) or (
+                    isinstance(over, ast.Call) and ast.unparse(over.func) in ("list", "tuple", "dict", "sorted", "sum", "reversed"))
+                if called in ("zip", "enumerate", "reversed") or called.endswith((".items", ".keys", ".values")):
+                    self.assertTrue(at_once, (name, node.lineno))
+                if called == "range":
+                    kept = isinstance(over, ast.Assign) and isinstance(over.targets[0], ast.Name)
+                    self.assertTrue(at_once or kept or isinstance(over, ast.Compare), (name, node.lineno))

@@ -86,7 +86,7 @@ class Looker:
         return right if right.term is not None else State(None, left.wants + right.wants)
 
     def _meeting(self, number, choice):
-        """The states that meet at a step: its input's twice, if nothing else meets it there."""
+        """The states that meet at a step; everywhere as the second one, if nothing meets the first."""
         step = self._plan[number]
         known = [self._states[source, choice] for source in self._plan.inputs_of(number)]
         if step.kind == "own":

@@ -1,19 +1,13 @@
-"""Worlds in which what may go wrong goes wrong: for a failure, or for a breach of a claim.
+"""Worlds in which what may go wrong goes wrong: for a failure, or for a breach of a claim."""
 
-Terms that need not be equal get unlike values there, all above 0, and two workers that need not
-be one are two. So just those rows come together that must, and no sum hides that a row is missing.
-"""
-
-from splitplans.equalities import Equalities
+from splitplans.machine import First, Machine
 from splitplans.needs import collapsed
 from splitplans.numbering import anti_over
+from splitplans.places import states
 from splitplans.plain import plain_rows
+from splitplans.scenes import Scene
 from splitplans.stories import Story, pair_facts
 from splitplans.streams import places_of, values_at
-from splitplans.terms import column_term, place_term, row_term, rule_term, zero_term
-from splitplans.worlds import World
-
-WORKERS = 2
 
 
 def world_of_failure(plan, failure):
@@ -26,7 +20,7 @@ def world_of_failure(plan, failure):
     apart = None if failure.left is None else (failure.left, failure.right)
     scene = Scene(plan, story.facts_at(level), {}, [], apart)
     scene.enter(story, [number for number in story.met if story.level_of(number) in ((), level)], False)
-    return scene.built()
+    return _world_of(plan, scene, None)
 
 
 def world_of_breach(plan, claim, breach):
@@ -36,7 +30,7 @@ def world_of_breach(plan, claim, breach):
     scene = Scene(plan, breach.alike, first.table_keys(), breach.rising, breach.apart)
     scene.enter(first, _outer(first, first.met), False)
     scene.enter(second, _outer(second, second.met), True)
-    world = scene.built()
+    world = _world_of(plan, scene, None)
     return (world, 0 if breach.apart is None else scene.worker_of(breach.apart[0]))
 
 
@@ -49,7 +43,7 @@ def _world_of_apart(plan, failure):
     scene = Scene(plan, facts, first.table_keys(), [], (failure.left, failure.right.second()))
     scene.enter(first, _outer(first, first.met), False)
     scene.enter(second, _outer(second, inside), True)
-    return scene.built()
+    return _world_of(plan, scene, failure)
 
 
 def _outer(story, numbers):
@@ -57,124 +51,54 @@ def _outer(story, numbers):
     return [number for number in numbers if story.level_of(number) == ()]
 
 
-class Scene:
-    """Rows of stories, from which a world is made.
-
-    facts and keys tell what is equal; rising are pairs of terms of which the left one gets the
-    lesser value; apart is a pair of terms that name unlike workers, or None.
-    """
-
-    def __init__(self, plan, facts, known_keys, rising, apart):
-        self._plan = plan
-        self._equalities = Equalities(facts, known_keys)
-        self._rising = rising
-        self._apart = apart
-        self._terms = {}
-        # For each row that has entered: its table, whether it is marked, the anti whose mate it is.
-        self._entered = []
-        # The class of equal terms of each text, and the value of each class.
-        self._classes = {}
-        self._values = {}
-        self._take([zero_term()] + [term for fact in facts for term in fact])
-
-    def enter(self, story, numbers, marked):
-        """Let the rows of a story pass through these steps."""
-        for number in numbers:
-            step = self._plan[number]
-            terms = _terms_at(story, number, step)
-            self._take([term.second() for term in terms] if marked else terms)
-            if step.kind == "scan":
-                self._entered.append((step.table, marked, anti_over(self._plan, number)))
-
-    def built(self):
-        """The world of all rows that have entered."""
-        self._give_values()
-        tests = {}
-        for number in range(1, len(self._plan) + 1):
-            step = self._plan[number]
+def _world_of(plan, scene, split):
+    """The scene's world with tests that let its rows pass; split is the failure that parts rows, or None."""
+    scene.settle()
+    tests = {}
+    for number in range(1, len(plan) + 1):
+        step = plan[number]
+        if step.kind in ("compute", "where"):
+            # Outside of right sides, what counts are the rows for which no anti finds a mate.
+            world = scene.world_with(tests, anti_over(plan, number) != 0)
+            rows = plain_rows(plan, world, plan.inputs_of(number)[0])
+            if split is not None and step.kind == "where" and split.number in plan.below(number):
+                rows = _rows_that_tell(plan, world, scene, split, number, rows)
             if step.kind == "where":
-                # What is to pass outside of right sides are the rows for which no anti finds a mate.
-                world = self._world_with(tests, anti_over(self._plan, number) != 0)
-                source = self._plan.inputs_of(number)[0]
-                rows = plain_rows(self._plan, world, source)
-                places = places_of(self._plan[source], step.named)
-                tests[step.name] = sorted(set([values_at(row, places) for row in rows]))
-        return self._world_with(tests, True)
-
-    def worker_of(self, term):
-        """The worker that a term names."""
-        if self._apart is None:
-            return 0
-        left, right = [self._classes[each.text] for each in self._apart]
-        away = left if right == self._classes[zero_term().text] else right
-        return 1 if self._classes[term.text] == away else 0
-
-    def _take(self, terms):
-        for term in terms:
-            for part in term.subterms():
-                self._terms[part.text] = part
-
-    def _give_values(self):
-        """Give each class of equal terms a value of its own."""
-        terms = list(self._terms.values())
-        self._classes = self._equalities.numbering(*terms)
-        rising = [(self._classes[low.text], self._classes[high.text]) for low, high in self._rising]
-        heights = {each: 0 for each in self._classes.values()}
-        # As often as there are pairs, since one may lift the low side of another.
-        for _ in rising:
-            for low, high in rising:
-                heights[high] = max(heights[high], heights[low] + 1)
-        ranked = sorted([(heights[each], each) for each in heights])
-        self._values = {ranked[at][1]: at + 1 for at in range(len(ranked))}
-
-    def _world_with(self, tests, with_mates):
-        rows = {}
-        anyhow = {}
-        for table, marked, anti in self._entered:
-            if (anti == 0 or with_mates) and not self._is_there(table, marked):
-                terms = [column_term(table.name, column, marked) for column in table.columns]
-                rows.setdefault(table.name, []).append(self._values_of(terms))
-                if table.lies == ("anyhow",):
-                    place = self.worker_of(place_term(table.name, marked))
-                    anyhow.setdefault(table.name, []).append(place)
-        return World(self._plan.tables, rows, workers=WORKERS, functions=self._meanings("function"),
-                     tests=tests, rules=self._meanings("rule"), anyhow=anyhow)
-
-    def _is_there(self, table, marked):
-        """Whether this is a marked row that is the unmarked one."""
-        first = self._classes.get(row_term(table.name).text)
-        return marked and first == self._classes[row_term(table.name, True).text]
-
-    def _values_of(self, terms):
-        return tuple([self._values[self._classes[term.text]] for term in terms])
-
-    def _meanings(self, kind):
-        """What the functions, or the rules, give for the values of their terms' parts."""
-        found = {}
-        for term in self._terms.values():
-            if term.kind == kind:
-                meaning = found.setdefault(term.name, {})
-                result = self.worker_of(term) if kind == "rule" else self._values_of([term])[0]
-                meaning[self._values_of(term.parts)] = result
-        return found
+                tests[step.name] = _named_values(step, rows)
+            else:
+                scene.give(step.name, _named_values(step, rows))
+    return scene.world_with(tests, True)
 
 
-def _terms_at(story, number, step):
-    """The terms of the values and workers that a step brings in."""
-    if step.kind == "scan":
-        return _terms_of_table(step.table)
-    if step.kind == "compute":
-        return [story.term_of(number, step.new)]
-    if step.kind in ("own", "split"):
-        terms = story.terms_of(number, step.named)
-        return [rule_term(step.name, *terms)]
-    return []
+def _named_values(step, rows):
+    """The unlike values, in the columns that a step names, of some rows of its input."""
+    places = places_of(step.inputs[0], step.named)
+    return sorted(set([values_at(row, places) for row in rows]))
 
 
-def _terms_of_table(table):
-    columns = [column_term(table.name, column) for column in table.columns]
-    if table.lies[0] != "dealt":
-        return columns + [place_term(table.name)]
-    _, rule, dealt = table.lies
-    terms = [column_term(table.name, column) for column in dealt]
-    return columns + [rule_term(rule, *terms)]
+def _rows_that_tell(plan, world, scene, split, number, rows):
+    """What a where above parted rows is to pass, so that it is seen at the end that they are parted.
+
+    Where it tests no measure, all rows pass. Otherwise one row alone, of which the workers make
+    more than there plainly are. For if several passed, rows that are too many could stand for
+    others whose measures are too small to pass.
+    """
+    source = plan.inputs_of(number)[0]
+    made = _rows_made(plan, world, split, source)
+    step = plan[source]
+    if not any([column in step.measures for column in plan[number].named]):
+        return rows + made
+    columns = [column for column in step.columns if column not in step.measures]
+    places = places_of(step, columns)
+    terms = Story(plan, split.choice).terms_of(source, columns)
+    told = scene.values_of(terms)
+    return [row for row in made if values_at(row, places) == told and made.count(row) > rows.count(row)][:1]
+
+
+def _rows_made(plan, world, split, number):
+    """The rows that the workers make of a step, each once if they lie everywhere."""
+    machine = Machine(plan, world)
+    machine.play(First())
+    everywhere = states(plan)[number, split.choice].term is None
+    workers = [0] if everywhere else list(range(world.workers))
+    return [row for worker in workers for row in machine.rows_at(number, worker)]

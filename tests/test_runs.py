@@ -65,6 +65,119 @@ FAILING = {
     ("apart", 3, "key of another column"): scan(A.with_key("k")).group_by("x", n="count").gather(),
 }
 
+# Plans with rows that lie apart, in which sums and counts of rows that are too many, and of others
+# that a test of a measure lets through or not, could make up for each other.
+MADE_UP = ("""table a a1 a2 a3 key a3 anyhow
+table b b1 b2 b3 key b2 copied
+table c c1 c2 c3 copied
+1 scan a
+2 scan b
+3 join 1 2 a1 b1
+4 scan c
+5 join 3 4 a1 c3
+6 compute 5 n0 f b3 c2
+7 compute 6 n1 f n0
+8 compute 7 n2 f c2
+9 equal 8 n2 c1
+10 group 9 b1 n1 with m sum n0
+11 gather 10
+12 keep 11 b1 n1 m
+13 where 12 p b1 n1 m
+14 group 13 with z count
+15 gather 14
+answer""", """table a a1 a2 a3 anyhow
+table b b1 b2 b3 key b3 copied
+table c c1 c2 c3 copied
+table d d1 d2 d3 copied
+1 scan a
+2 scan b
+3 join 1 2 a2 b1
+4 scan c
+5 join 3 4 a1 c3
+6 scan d
+7 join 5 6 c3 d2
+8 compute 7 n0 f d1 c1
+9 group 8 n0 a1 with m sum n0
+10 gather 9
+11 keep 10 m
+12 where 11 p m
+13 group 12 with z count
+answer""", """table a a1 a2 a3 anyhow
+table b b1 b2 b3 copied
+1 scan a
+2 scan b
+3 join 1 2 a1 b3
+4 compute 3 n0 f b1 a3
+5 compute 4 n1 f n0 n0
+6 compute 5 n2 f n1
+7 group 6 a2 a1 n0 with m sum n0
+8 gather 7
+9 keep 8 a2 m
+10 where 9 p a2 m
+11 group 10 with z sum m
+answer""", """table a a1 a2 a3 anyhow
+table b b1 b2 b3 copied
+table c c1 c2 c3 copied
+1 scan a
+2 scan b
+3 join 1 2 a3 b2
+4 scan c
+5 join 3 4 b2 c3
+6 compute 5 n0 f a1 c2
+7 compute 6 n1 f a1 n0
+8 group 7 b2 n1 with m sum n0
+9 gather 8
+10 keep 9 b2 m
+11 where 10 p b2 m
+12 group 11 with z sum m
+13 gather 12
+answer""", """table a a1 a2 a3 anyhow
+table b b1 b2 b3 key b1 copied
+table c c1 c2 c3 copied
+1 scan a
+2 scan b
+3 join 1 2 a1 b3
+4 scan c
+5 join 3 4 a1 c3
+6 compute 5 n0 f c1 b1
+7 group 6 b3 n0 with m count
+8 gather 7
+9 keep 8 m
+10 where 9 p m
+11 group 10 with z sum m
+12 gather 11
+answer""", """table a a1 a2 a3 anyhow
+table b b1 b2 b3 copied
+table c c1 c2 c3 copied
+1 scan a
+2 scan b
+3 join 1 2 a1 b1
+4 scan c
+5 join 3 4 a2 c2
+6 compute 5 n0 f a3 c3
+7 equal 6 c1 a2
+8 group 7 n0 a2 with m sum c2 q count
+9 gather 8
+10 keep 9 m
+11 where 10 p m
+12 group 11 with z sum m
+answer""", """table a a1 a2 a3 anyhow
+table b b1 b2 b3 copied
+table c c1 c2 c3 copied
+1 scan a
+2 scan b
+3 join 1 2 a1 b2
+4 scan c
+5 join 3 4 b3 c3
+6 compute 5 n0 f a3
+7 compute 6 n1 f c3 n0
+8 group 7 n1 b2 c2 with m count q count
+9 gather 8
+10 keep 9 c2 m
+11 where 10 p c2 m
+12 group 11 with z sum m
+answer""")
+
 # Plans without failure of which a claim does not hold, with their orders.
 BROKEN = {
     "scan": (scan(ZERO_A), ["k"]),
@@ -137,6 +250,24 @@ class Failures(unittest.TestCase):
             world = run_of(plan).world
             for chooser in (First(), Last()):
                 self.assertTrue(breaks(plan, Run(world, Machine(plan, world).play(chooser))))
+
+    def test_rows_that_could_make_up_for_each_other(self):
+        for text in MADE_UP:
+            plan = Plan.read(text)
+            self.assertEqual(failures(plan)[0].kind, "apart")
+            as_told(self, plan, run_of(plan), 2)
+
+    def test_tests_of_measures_one_above_the_other(self):
+        counted = scan(A).group_by("k", "x", n="count").gather().where("p", "k", "x", "n").keep("k", "n")
+        twice = counted.group_by("k", m=("sum", "n")).where("q", "m", "k")
+        everywhere = scan(A).group_by("k", n="count").gather().broadcast().where("p", "k", "n").keep("k")
+        semi = scan(C).semi_with(scan(A), [("h", "k")]).gather().group_by("h", n="count").where("p", "n", "h").keep("h")
+        tested = semi.where("q", "h").compute("m", "f", "h").where("s", "m")
+        union = (scan(A) + scan(B)).group_by("k", n="count").gather().where("p", "k", "n").group_by(m="count")
+        for root in (counted, twice, twice.keep("k"), everywhere, semi, tested, union, union.where("q", "m")):
+            plan = Plan(root)
+            self.assertEqual(failures(plan)[0].kind, "apart")
+            as_told(self, plan, run_of(plan), 2)
 
     def test_a_failure_before_a_claim(self):
         plan = Plan(scan(A), ["k"])
